@@ -1,0 +1,1 @@
+"""Digbook: what lies on what in a dig, what is elder, and which years fit."""
