@@ -1,4 +1,4 @@
-"""The form of the package's own files: those rules of the language that can be read off a file."""
+"""The form of the package's own files: some of the rules of LANGUAGE.md, those that are plain to read off a file."""
 
 import ast
 import builtins
