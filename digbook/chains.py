@@ -1,8 +1,8 @@
 """Chains: links from a layer's deposit to an earlier one, and how two layers stand."""
 
-from digbook.deposits import deposit_of
+from digbook.deposits import deposit_names, deposit_of
 from digbook.rings import untorn_links
-from digbook.ways import links_by_later, shortest_way
+from digbook.ways import all_beneath, links_by_later, shortest_way
 
 
 # Two layers of one deposit need no asking: without a ring no way leads back to it.
@@ -22,3 +22,8 @@ def standing(ground, one, other):
     if shortest_way(beneath, second, first) is not None:
         return "earlier"
     return "open"
+
+
+def earlier_ones(ground):
+    found = untorn_links(ground)
+    return all_beneath(deposit_names(ground), found)

@@ -38,6 +38,11 @@ def letters_drawn(text):
     return sorted(set(text) - set(".\n"))
 
 
+def flat(letters, *pairs):
+    """A cut n without meetings, and a later-saying for each pair of letters."""
+    return Ground([("n", letters)], [("later", "n." + one, "n." + other) for one, other in pairs])
+
+
 def free_ground(seed):
     """A small ground in which nothing keeps rings away: some are torn, some are not."""
     chance = random.Random(seed)
@@ -67,14 +72,24 @@ def settled_cut(chance, times, height, length):
     return "\n".join("".join(signs) for signs in zip(*columns))
 
 
-def settled_ground(seed, names=("n", "na", "s", "w"), kinds=4, height=5, length=2, sayings=8, years=12, untrue=0):
+def broad_cut(chance, times, height, length):
+    """A cut of just the letters of times, in each place two of them or one, so that many stand open."""
+    columns = []
+    for place in range(length):
+        pair = sorted((list(times)[place % len(times)], chance.choice(list(times))), key=times.get, reverse=True)
+        columns.append(pair[0] * (height // 2) + pair[1] * (height - height // 2))
+    return "\n".join("".join(signs) for signs in zip(*columns))
+
+
+def settled_ground(seed, names=("n", "na", "s", "w"), kinds=4, height=5, length=2, sayings=8, years=12, untrue=0,
+                   draw=settled_cut):
     """A ground of which each layer has a year of its own that all ties and sayings keep to,
     but for so many later-sayings at the end as are untrue."""
     chance = random.Random(seed)
     cuts, year_of = [], {}
     for name in names:
         times = dict(zip(chance.sample(ALPHABET, kinds), chance.sample(range(years), kinds)))
-        cuts.append((name, settled_cut(chance, times, height, length)))
+        cuts.append((name, draw(chance, times, height, length)))
         year_of.update((name + "." + letter, year) for letter, year in times.items())
     pairs = [(one, other) for one in year_of for other in year_of if one != other]
     true = [("same" if year_of[one] == year_of[other] else "later", one, other)
@@ -85,6 +100,10 @@ def settled_ground(seed, names=("n", "na", "s", "w"), kinds=4, height=5, length=
     return Ground(cuts, said + chance.sample(wrong, untrue))
 
 
+def broad_ground(seed, names=("n", "s"), kinds=4, length=6, sayings=3):
+    return settled_ground(seed, names, kinds, 2, length, sayings, 30, draw=broad_cut)
+
+
 def greatest_names():
     return ["cutaaaa" + letter for letter in ALPHABET[:8]]
 
@@ -92,6 +111,11 @@ def greatest_names():
 def greatest_ground(seed, sayings=60, untrue=0):
     """Eight cuts of forty rows, forty signs and twenty-six letters."""
     return settled_ground(seed, greatest_names(), 26, 40, 40, sayings, 300, untrue)
+
+
+def greatest_broad_ground(seed, sayings=60):
+    """As great, but with two letters only in each place, so that many deposits stand open."""
+    return settled_ground(seed, greatest_names(), 26, 40, 40, sayings, 300, draw=broad_cut)
 
 
 def greatest_free_ground(seed):

@@ -6,20 +6,11 @@ import unittest
 from digbook.deposits import deposits
 from digbook.ground import Ground
 from digbook.orders import is_order, order
-from drawings import free_ground, settled_ground
-from readings import all_orders, fewest_of_a_ring, keeps_all_links, least_in_turn, plain_groups
+from drawings import flat, free_ground, settled_ground
+from readings import all_orders, keeps_all_links, least_in_turn, plain_groups, untorn
 
 NORTH = ("north", "..a\nbba\nccc")
 SOUTH = ("south", "a\nb")
-
-
-def flat(letters, *pairs):
-    """A cut n without meetings, and a later-saying for each pair of letters."""
-    return Ground([("n", letters)], [("later", "n." + one, "n." + other) for one, other in pairs])
-
-
-def untorn(grounds):
-    return [ground for ground in grounds if fewest_of_a_ring(ground) is None]
 
 
 class TheOrder(unittest.TestCase):

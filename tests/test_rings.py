@@ -5,10 +5,13 @@ import unittest
 
 from digbook.chains import chain, standing
 from digbook.deposits import deposit_of, deposits, links
+from digbook.direct import direct_pairs, levels
 from digbook.errors import DigError, Torn
 from digbook.ground import Ground
+from digbook.opens import two_orders
 from digbook.orders import is_order, order
 from digbook.rings import ring
+from digbook.rows import fewest_rows, widest
 from drawings import free_ground, settled_ground
 from readings import ReadingCase, fewest_of_a_ring, plain_groups, plain_links, plain_names
 
@@ -24,9 +27,9 @@ def torn_answers(ground):
     """What the functions behind tell or refuse, each asked in several ways."""
     names = [group[0] for group in plain_groups(ground)]
     first, last = ground.layers()[0], ground.layers()[-1]
-    asked = [lambda: order(ground)]
+    asked = [lambda tell=tell: tell(ground) for tell in (order, direct_pairs, levels, fewest_rows, widest)]
     asked += [lambda some=some: is_order(ground, some) for some in (names, names[::-1], [], ["none"], names * 2)]
-    for tell in (chain, standing):
+    for tell in (chain, standing, two_orders):
         for one, other in ((first, last), (last, first), (first, first), (last, last)):
             asked.append(lambda tell=tell, one=one, other=other: tell(ground, one, other))
     return asked
@@ -227,13 +230,13 @@ class WhatTornLeaves(RingCase):
 
     def test_layers_far_from_the_ring_are_refused_too(self):
         ground = Ground([("n", "a\nb"), ("s", "c\nd")], [("later", "n.b", "n.a")])
-        for tell in (chain, standing):
+        for tell in (chain, standing, two_orders):
             self.assertRaises(Torn, tell, ground, "s.c", "s.d")
             self.assertRaises(Torn, tell, ground, "s.d", "s.c")
             self.assertRaises(Torn, tell, ground, "s.d", "s.d")
 
     def test_layers_of_one_deposit_are_refused_too(self):
-        for tell in (chain, standing):
+        for tell in (chain, standing, two_orders):
             self.assertRaises(Torn, tell, self.ground, "s.d", "n.b")
 
     def test_each_refusal_has_a_ring_of_its_own(self):

@@ -1,4 +1,4 @@
-"""Points 1 and 2 for deposits, rings, orders and chains together, their interface, and the greatest grounds."""
+"""Points 1 and 2 for all that is told of a ground, and its interface."""
 
 import inspect
 import itertools
@@ -9,14 +9,19 @@ import unittest
 
 from digbook.chains import chain, standing
 from digbook.deposits import deposit_of, deposits, links
+from digbook.direct import direct_pairs, levels
 from digbook.errors import Torn
 from digbook.ground import Ground
+from digbook.opens import two_orders
 from digbook.orders import is_order, order
 from digbook.rings import ring
-from drawings import (ALPHABET, free_ground, greatest_free_ground, greatest_ground, greatest_names, long_row_ground,
-                      settled_ground)
-from readings import (ReadingCase, fewest_links, fewest_of_a_ring, keeps_all_links, least_in_turn, plain_groups,
-                      plain_links, plain_names)
+from digbook.rows import fewest_rows, widest
+from drawings import free_ground, settled_ground
+
+# What is told with a ring too, what is refused there, and what is asked of two layers.
+AHEAD = (deposits, links, ring)
+BEHIND = (order, direct_pairs, levels, fewest_rows, widest)
+OF_TWO = (chain, standing, two_orders)
 
 HERE = os.path.dirname(os.path.abspath(__file__))
 
@@ -32,70 +37,74 @@ def torn():
     return Ground(list(CUTS), SAYINGS + [("later", "n.c", "w.p")])
 
 
-def torn_ring(ask, *things):
+def questions(ground):
+    """What can be asked of a ground, each function with its arguments; of the pairs of layers some."""
+    layers = ground.layers()
+    asked = [(tell, ground) for tell in AHEAD + BEHIND]
+    asked += [(deposit_of, ground, layer) for layer in layers]
+    asked += [(is_order, ground, some) for some in (layers, layers[::-1], deposits(ground)[0], [])]
+    for one, other in list(zip(layers, layers[::-1])) + list(zip(layers, layers[3:])):
+        asked += [(tell, ground, one, other) for tell in OF_TWO]
+    return asked
+
+
+def answer(tell, *things):
     try:
-        ask(*things)
+        return tell(*things)
     except Torn as error:
         return error.ring
-    raise AssertionError("not refused with Torn")
-
-
-def lists_told(ground):
-    """All that is told of a ground and is a list."""
-    told = [deposits(ground), links(ground)]
-    if ring(ground) is not None:
-        layers = ground.layers()
-        return told + [ring(ground), torn_ring(order, ground), torn_ring(is_order, ground, []),
-                       torn_ring(chain, ground, layers[0], layers[-1]),
-                       torn_ring(standing, ground, layers[0], layers[-1])]
-    told.append(order(ground))
-    for one, other in itertools.product(ground.layers(), repeat=2):
-        way = chain(ground, one, other)
-        if way is not None:
-            told.append(way)
-    return told
 
 
 def all_told(ground):
-    told = lists_told(ground) + [[deposit_of(ground, layer) for layer in ground.layers()]]
-    if ring(ground) is None:
-        names = order(ground)
-        told.append([is_order(ground, some) for some in (names, names[::-1], names[1:], [])])
-        told += [standing(ground, one, other) for one, other in itertools.product(ground.layers(), repeat=2)]
-    return told
+    return [answer(*asked) for asked in questions(ground)]
 
 
 def own_things(ground):
     return [ground.cuts(), ground.sayings(), ground.layers(), ground.ties()]
 
 
+def parts_of(told):
+    """All lists and dicts in what is told, however deep, itself among them."""
+    inner = list(told.values()) if isinstance(told, dict) else told if isinstance(told, (list, tuple)) else []
+    parts = [told] if isinstance(told, (list, dict)) else []
+    for part in inner:
+        parts += parts_of(part)
+    return parts
+
+
 def spoil(told):
-    """Changes a told list in every way, the lists within it too."""
-    for part in told:
-        if isinstance(part, list):
+    """Changes each told list and dict in every way."""
+    for part in parts_of(told):
+        if isinstance(part, dict):
+            part.update(dict.fromkeys(part, "other"), more=None)
+        elif part:
+            part.reverse()
             part.append("more")
-            part[0] = "other"
-    told.reverse()
-    told.append("more")
-    told[0] = None
+            part[0] = None
 
 
 class NothingKeptNothingChanged(unittest.TestCase):
+    def test_each_kind_is_asked_for(self):
+        told = dict(zip([asked[0] for asked in questions(whole())], all_told(whole())))
+        for kind in (list, dict, tuple, str, bool):
+            self.assertIn(kind, [type(some) for some in all_told(whole())])
+        self.assertEqual(set(told), set(AHEAD + BEHIND + OF_TWO + (deposit_of, is_order)))
+
     def test_told_lists_changed(self):
         for make in (whole, torn):
             ground, before = make(), all_told(make())
-            for told in lists_told(ground):
+            for told in all_told(ground):
                 spoil(told)
                 self.assertEqual(all_told(ground), before)
-            for told in lists_told(ground):
-                told.clear()
+            for part in parts_of(all_told(ground)):
+                part.clear()
             self.assertEqual(all_told(ground), before)
 
     def test_told_lists_are_not_changed_by_asking_again(self):
         for make in (whole, torn):
             ground = make()
             first, before = all_told(ground), all_told(make())
-            for told in lists_told(ground):
+            for told in all_told(ground):
                 spoil(told)
             all_told(Ground([("n", "b\na\nc"), ("s", "y\nx")], [("same", "n.a", "s.x")]))
             self.assertEqual(first, before)
@@ -103,9 +112,8 @@ class NothingKeptNothingChanged(unittest.TestCase):
     def test_no_list_is_told_twice(self):
         for make in (whole, torn):
             ground = make()
-            told = lists_told(ground) + lists_told(ground) + own_things(ground)
-            told += [part for some in told for part in some if isinstance(part, list)]
-            self.assertEqual(len({id(some) for some in told}), len(told))
+            told = parts_of([all_told(ground), all_told(ground), own_things(ground)])
+            self.assertEqual(len({id(part) for part in told}), len(told))
 
     def test_another_ground_asked_in_between(self):
         grounds = [whole(), torn(), Ground(CUTS, []), Ground([("n", "c\nb\na"), ("s", "y\nx"), ("w", "qp")], SAYINGS)]
@@ -123,7 +131,7 @@ class NothingKeptNothingChanged(unittest.TestCase):
     def test_the_grounds_own_things_stay(self):
         for make in (whole, torn):
             ground, before = make(), own_things(make())
-            for told in lists_told(ground):
+            for told in all_told(ground):
                 spoil(told)
             all_told(ground)
             self.assertEqual(own_things(ground), before)
@@ -132,14 +140,14 @@ class NothingKeptNothingChanged(unittest.TestCase):
         for seed in range(60):
             for make in (free_ground, settled_ground):
                 ground = make(seed)
-                for told in lists_told(ground):
+                for told in all_told(ground):
                     spoil(told)
                 self.assertEqual(own_things(ground), own_things(make(seed)))
 
     def test_each_ground_of_the_same_things_is_told_the_same(self):
         cuts, sayings = list(CUTS), list(SAYINGS)
         one, other = Ground(cuts, sayings), Ground(cuts, sayings)
-        for told in lists_told(one):
+        for told in all_told(one):
             spoil(told)
         cuts.clear()
         sayings.clear()
@@ -167,90 +175,10 @@ class Interface(unittest.TestCase):
     def test_arguments_by_their_names(self):
         for tell, asked in ((deposits, ["ground"]), (deposit_of, ["ground", "layer"]), (links, ["ground"]),
                             (ring, ["ground"]), (order, ["ground"]), (is_order, ["ground", "some"]),
-                            (chain, ["ground", "one", "other"]), (standing, ["ground", "one", "other"])):
+                            (chain, ["ground", "one", "other"]), (standing, ["ground", "one", "other"]),
+                            (two_orders, ["ground", "one", "other"]), (direct_pairs, ["ground"]),
+                            (levels, ["ground"]), (fewest_rows, ["ground"]), (widest, ["ground"])):
             self.assertEqual(list(inspect.signature(tell).parameters), asked, tell)
-
-
-class Greatest(ReadingCase):
-    def check_deposits(self, ground):
-        self.assertEqual(deposits(ground), plain_groups(ground))
-        self.assertEqual(links(ground), plain_links(ground))
-        names = plain_names(ground)
-        for layer in ground.layers():
-            self.assertEqual(deposit_of(ground, layer), names[layer])
-
-    def check_untorn(self, ground):
-        self.check_deposits(ground)
-        self.assertIsNone(ring(ground))
-        told = order(ground)
-        self.assertEqual(told, least_in_turn(ground))
-        self.assertTrue(keeps_all_links(ground, told))
-        back = told[::-1]
-        for some, asked in ((told, True), (back, keeps_all_links(ground, back)), (told[1:], False), (told * 2, False)):
-            self.assertIs(is_order(ground, some), asked)
-        names, counts = plain_names(ground), fewest_links(ground)
-        # A part of the pairs, each layer in some of them.
-        layers = ground.layers()
-        for one, other in list(zip(layers, layers[::-1])) + list(zip(layers, layers[5:])):
-            count = counts.get((names[one], names[other]))
-            back = counts.get((names[other], names[one]))
-            if count is None:
-                self.assertIsNone(chain(ground, one, other))
-            else:
-                self.check_chain(ground, chain(ground, one, other), one, other, count)
-            asked = "later" if count else "earlier" if back else "one" if names[one] == names[other] else "open"
-            self.assertEqual(standing(ground, one, other), asked)
-
-    def check_torn(self, ground, count):
-        self.check_deposits(ground)
-        self.check_ring(ground, ring(ground), count)
-        layers = ground.layers()
-        for ask in ((order, ground), (is_order, ground, layers), (chain, ground, layers[0], layers[-1]),
-                    (standing, ground, layers[0], layers[-1])):
-            self.check_ring(ground, torn_ring(*ask), count)
-
-    def test_eight_great_cuts_and_sixty_sayings(self):
-        for seed in range(2):
-            ground = greatest_ground(seed)
-            self.assertEqual((len(ground.cuts()), len(ground.sayings()), len(ground.layers())), (8, 60, 208))
-            self.assertTrue(all(len(text) == 40 * 41 - 1 for _, text in ground.cuts()))
-            self.check_untorn(ground)
-
-    def test_torn_by_sayings(self):
-        counts = set()
-        for seed in range(4):
-            ground = greatest_ground(seed, 57, 3)
-            count = fewest_of_a_ring(ground)
-            counts.add(count)
-            self.check_torn(ground, count)
-        self.assertTrue(max(counts) > 3)
-
-    def test_torn_everywhere(self):
-        for seed in range(2):
-            ground = greatest_free_ground(seed)
-            self.assertGreater(len(ground.ties()), 4000)
-            self.check_torn(ground, fewest_of_a_ring(ground))
-
-    def test_one_row_of_all(self):
-        ground, names = long_row_ground(False), greatest_names()
-        self.check_untorn(ground)
-        self.assertEqual(order(ground), [name + "." + letter for name in names[::-1] for letter in ALPHABET[::-1]])
-        one, other = names[0] + ".a", names[-1] + ".z"
-        self.check_chain(ground, chain(ground, one, other), one, other, 207)
-        self.assertIsNone(chain(ground, other, one))
-        self.assertEqual([standing(ground, one, other), standing(ground, other, one)], ["later", "earlier"])
-
-    def test_one_ring_of_all(self):
-        self.check_torn(long_row_ground(True), 208)
-
-    def test_sixty_same_sayings(self):
-        layers = [name + "." + letter for letter in ALPHABET for name in greatest_names()]
-        cuts = [(name, ALPHABET) for name in greatest_names()]
-        for said in (list(zip(layers, layers[1:]))[:60], list(zip(layers, layers[1:]))[59::-1]):
-            ground = Ground(cuts, [("same", one, other) for one, other in said])
-            self.check_deposits(ground)
-            self.assertEqual(deposits(ground)[0], sorted(layers[:61]))
-            self.check_untorn(ground)
 
 
 if __name__ == "__main__":
