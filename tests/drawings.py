@@ -104,6 +104,31 @@ def broad_ground(seed, names=("n", "s"), kinds=4, length=6, sayings=3):
     return settled_ground(seed, names, kinds, 2, length, sayings, 30, draw=broad_cut)
 
 
+def with_years(ground, seed, count=8, first=1, last=9):
+    """The ground with so many sayings of years more, somewhere among the others."""
+    chance = random.Random(seed)
+    said = ground.sayings()
+    for _ in range(count):
+        saying = (chance.choice(("since", "by")), chance.choice(ground.layers()), chance.randint(first, last))
+        said.insert(chance.randint(0, len(said)), saying)
+    return Ground(ground.cuts(), said)
+
+
+def without(ground, numbers):
+    """The ground without the sayings of these numbers."""
+    return Ground(ground.cuts(), [saying for number, saying in enumerate(ground.sayings()) if number not in numbers])
+
+
+def dated_grounds(count):
+    """Grounds of several kinds, some torn, with sayings of years that clash often, seldom and not at all."""
+    told = []
+    for seed in range(count):
+        told.append(with_years(free_ground(seed), seed, seed % 9))
+        told.append(with_years(broad_ground(seed), seed, seed % 7, 1, 3))
+        told.append(with_years(settled_ground(seed, ("n", "s"), sayings=4), seed, seed % 11, -20, 20))
+    return told
+
+
 def greatest_names():
     return ["cutaaaa" + letter for letter in ALPHABET[:8]]
 

@@ -1,9 +1,14 @@
-"""What points 8 to 15 say, read in the plainest way, however slow, to hold the program's answers against."""
+"""What points 8 to 19 say, read in the plainest way, however slow, to hold the program's answers against."""
 
+import functools
 import itertools
 import unittest
 
+# A ground never changes, and the same one is read many times over; nobody changes what is read.
+kept_a_while = functools.lru_cache(maxsize=8)
 
+
+@kept_a_while
 def plain_groups(ground):
     """The deposits: single layers at first, then the groups of each same-saying's two layers joined."""
     groups = [{layer} for layer in ground.layers()]
@@ -14,15 +19,18 @@ def plain_groups(ground):
     return sorted(sorted(group) for group in groups)
 
 
+@kept_a_while
 def plain_names(ground):
     return {layer: group[0] for group in plain_groups(ground) for layer in group}
 
 
+@kept_a_while
 def plain_links(ground):
     names = plain_names(ground)
     return sorted({(names[later], names[earlier], source) for later, earlier, source in ground.ties()})
 
 
+@kept_a_while
 def fewest_links(ground):
     """From (later, earlier) to the fewest links that lead from the one to the other, one or more."""
     earlier_ones = {}
@@ -48,7 +56,8 @@ def untorn(grounds):
 
 
 def keeps_all_links(ground, names):
-    return all(names.index(earlier) < names.index(later) for later, earlier, _ in plain_links(ground))
+    places = {name: place for place, name in enumerate(names)}
+    return all(places[earlier] < places[later] for later, earlier, _ in plain_links(ground))
 
 
 def all_orders(ground):
@@ -128,6 +137,61 @@ def widest_tried(ground):
     return max(len(some) for some in sets)
 
 
+@kept_a_while
+def years_said(ground, word):
+    """Of each saying of this word its number, its deposit and its year."""
+    names = plain_names(ground)
+    return [(number, names[saying[1]], saying[2]) for number, saying in enumerate(ground.sayings())
+            if saying[0] == word]
+
+
+@kept_a_while
+def one_or_later(ground):
+    """All pairs (upper, lower) of deposits that are one and the same, or the upper later than the lower."""
+    return set(fewest_links(ground)) | {(group[0], group[0]) for group in plain_groups(ground)}
+
+
+@kept_a_while
+def plain_bounds(ground):
+    upon = one_or_later(ground)
+    return {group[0]: (max([-9999] + [year for _, name, year in years_said(ground, "since") if (group[0], name) in upon]),
+                       min([9999] + [year for _, name, year in years_said(ground, "by") if (name, group[0]) in upon]))
+            for group in plain_groups(ground)}
+
+
+@kept_a_while
+def plain_clashes(ground):
+    """All pairs (since, by) of numbers that clash, sorted."""
+    upon = one_or_later(ground)
+    return [(since, by) for since, lower, first in years_said(ground, "since")
+            for by, upper, last in years_said(ground, "by") if first > last and (upper, lower) in upon]
+
+
+def do_fit(ground, years):
+    """Whether these years, a dict from the deposits, fit by point 16."""
+    return (all(-9999 <= year <= 9999 for year in years.values())
+            and all(years[later] >= years[earlier] for later, earlier, _ in plain_links(ground))
+            and all(years[name] >= year for _, name, year in years_said(ground, "since"))
+            and all(years[name] <= year for _, name, year in years_said(ground, "by")))
+
+
+def all_fitting(ground, years):
+    """All that fit of the dicts from the deposits to some of these years."""
+    names = [group[0] for group in plain_groups(ground)]
+    tried = (dict(zip(names, some)) for some in itertools.product(years, repeat=len(names)))
+    return [some for some in tried if do_fit(ground, some)]
+
+
+def fewest_left_out(ground):
+    """How many sayings at least must be left out, any of them tried, so that no two clash."""
+    clashes = plain_clashes(ground)
+    numbers = sorted({number for pair in clashes for number in pair})
+    for count in range(len(numbers) + 1):
+        for some in itertools.combinations(numbers, count):
+            if all(since in some or by in some for since, by in clashes):
+                return count
+
+
 class ReadingCase(unittest.TestCase):
     def check_list_of_links(self, ground, told):
         self.assertIsInstance(told, list)
@@ -176,3 +240,56 @@ class ReadingCase(unittest.TestCase):
         self.assertLessEqual(set(told), {group[0] for group in plain_groups(ground)})
         for one, other in itertools.permutations(told, 2):
             self.assertNotIn((one, other), later, told)
+
+    def check_bound_chain(self, ground, told, one, other):
+        """A shortest chain between two deposits, or [] where they are one."""
+        if one == other:
+            self.assertEqual(told, [])
+            self.assertIsInstance(told, list)
+        else:
+            self.check_chain(ground, told, one, other, fewest_links(ground)[one, other])
+
+    def check_clash(self, ground, told):
+        clashes = plain_clashes(ground)
+        if not clashes:
+            self.assertIsNone(told)
+            return
+        self.assertIsInstance(told, tuple)
+        since, by, way = told
+        self.assertEqual((since, by), clashes[0])
+        names, sayings = plain_names(ground), ground.sayings()
+        self.assertEqual((sayings[since][0], sayings[by][0]), ("since", "by"))
+        self.check_bound_chain(ground, way, names[sayings[by][1]], names[sayings[since][1]])
+
+    def check_whys(self, ground, layer, least, greatest):
+        """Both reasons told of a layer's bounds, held against the sayings one by one."""
+        upon, name = one_or_later(ground), plain_names(ground)[layer]
+        bounds = plain_bounds(ground)[name]
+        sinces = [said for said in years_said(ground, "since") if (name, said[1]) in upon and said[2] == bounds[0]]
+        bys = [said for said in years_said(ground, "by") if (said[1], name) in upon and said[2] == bounds[1]]
+        for told, said, place in ((least, sinces, 0), (greatest, bys, 1)):
+            if not said:
+                self.assertIsNone(told, layer)
+                continue
+            self.assertIsInstance(told, tuple)
+            number, way = told
+            self.assertEqual(number, said[0][0], layer)
+            ends = (name, said[0][1]) if place == 0 else (said[0][1], name)
+            self.check_bound_chain(ground, way, *ends)
+
+    def check_wrong(self, ground, told):
+        """As point 19 asks; with as many pairs as numbers no fewer will do."""
+        self.assertIsInstance(told, tuple)
+        numbers, pairs = told
+        self.assertEqual((type(numbers), type(pairs)), (list, list))
+        clashes = plain_clashes(ground)
+        self.assertEqual(numbers, sorted(set(numbers)))
+        self.assertEqual(pairs, sorted(pairs))
+        self.assertEqual(len(pairs), len(numbers), told)
+        for pair in pairs:
+            self.assertIn(pair, clashes)
+        self.assertEqual(len({number for pair in pairs for number in pair}), 2 * len(pairs), told)
+        for since, by in clashes:
+            self.assertTrue(since in numbers or by in numbers, told)
+        words = [saying[0] for saying in ground.sayings()]
+        self.assertLessEqual({words[number] for number in numbers}, {"since", "by"})

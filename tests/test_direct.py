@@ -107,7 +107,7 @@ class WhatFollowsFromThem(DirectCase):
         for ground in drawn_grounds():
             told, later = direct_pairs(ground), set(fewest_links(ground))
             self.assertEqual(leads_to(told), later)
-            for pair in told[::3]:
+            for pair in told:
                 self.assertNotEqual(leads_to([other for other in told if other != pair]), later)
 
     def test_a_cut_turned_about_or_drawn_wider(self):

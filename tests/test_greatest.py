@@ -3,6 +3,7 @@
 import time
 import unittest
 
+from asking import BEHIND, OF_TWO
 from digbook.chains import chain, standing
 from digbook.deposits import deposit_of, deposits, links
 from digbook.direct import direct_pairs, levels
@@ -12,10 +13,12 @@ from digbook.opens import two_orders
 from digbook.orders import is_order, order
 from digbook.rings import ring
 from digbook.rows import fewest_rows, widest
+from digbook.wrong import fewest_wrong
+from digbook.years import bounds, clash, why_greatest, why_least
 from drawings import (ALPHABET, greatest_broad_ground, greatest_free_ground, greatest_ground, greatest_names,
-                      long_row_ground)
-from readings import (ReadingCase, fewest_links, fewest_of_a_ring, keeps_all_links, least_in_turn, plain_direct,
-                      plain_groups, plain_links, plain_names)
+                      long_row_ground, with_years)
+from readings import (ReadingCase, fewest_links, fewest_of_a_ring, keeps_all_links, least_in_turn, plain_bounds,
+                      plain_direct, plain_groups, plain_links, plain_names)
 
 MOST_SECONDS = 5
 
@@ -95,6 +98,13 @@ class GreatestCase(ReadingCase):
         self.check_rows(ground, rows, len(some))
         self.check_widest(ground, some, len(rows))
 
+    def check_years(self, ground):
+        self.assertEqual(ask(bounds, ground), plain_bounds(ground))
+        self.check_clash(ground, ask(clash, ground))
+        self.check_wrong(ground, ask(fewest_wrong, ground))
+        for layer in ground.layers()[::12]:
+            self.check_whys(ground, layer, ask(why_least, ground, layer), ask(why_greatest, ground, layer))
+
     def check_untorn(self, ground):
         self.check_deposits(ground)
         self.check_orders(ground)
@@ -103,15 +113,18 @@ class GreatestCase(ReadingCase):
         self.assertEqual(ask(direct_pairs, ground), plain_direct(ground))
         self.check_levels(ground)
         self.check_rows_and_set(ground)
+        self.check_years(ground)
 
     def check_torn(self, ground, count):
         self.check_deposits(ground)
         self.check_ring(ground, ask(ring, ground), count)
         layers = ground.layers()
         self.check_ring(ground, torn_ring(is_order, ground, layers), count)
-        for tell in (order, direct_pairs, levels, fewest_rows, widest):
+        for tell in BEHIND:
             self.check_ring(ground, torn_ring(tell, ground), count)
-        for tell in (chain, standing, two_orders):
+        for tell in (why_least, why_greatest):
+            self.check_ring(ground, torn_ring(tell, ground, layers[-1]), count)
+        for tell in OF_TWO:
             self.check_ring(ground, torn_ring(tell, ground, layers[0], layers[-1]), count)
 
 
@@ -122,6 +135,29 @@ class Greatest(GreatestCase):
             self.assertTrue(all(len(text) == 40 * 41 - 1 for _, text in ground.cuts()))
             self.check_untorn(ground)
         self.assertGreater(len(widest(ground)), 30)
+
+    def test_sixty_sayings_of_years(self):
+        counts = []
+        for seed in range(3):
+            for first, last in ((-9999, 9999), (1, 20)):
+                for make in (greatest_ground, greatest_broad_ground):
+                    ground = with_years(make(seed, 0), seed, 60, first, last)
+                    self.assertEqual(len(ground.sayings()), 60)
+                    self.check_years(ground)
+                    counts.append(len(fewest_wrong(ground)[0]))
+        self.assertGreater(max(counts), 9)
+        self.assertGreater(min(counts), 0)
+
+    def test_sayings_of_years_in_one_row_of_all(self):
+        ground = with_years(long_row_ground(False), 0, 53, -9999, 9999)
+        self.check_years(ground)
+        self.assertGreater(len(fewest_wrong(ground)[0]), 9)
+
+    def test_sixty_sayings_some_of_years(self):
+        for seed in range(2):
+            ground = with_years(greatest_ground(seed, 30), seed, 30)
+            self.assertEqual(len(ground.sayings()), 60)
+            self.check_years(ground)
 
     def test_torn_by_sayings(self):
         counts = set()

@@ -24,6 +24,7 @@ DUNDERS = ("__init__", "__eq__", "__repr__", "__str__", "__len__")
 WORDS_OUT = re.compile(r"\b(type|typing|typing_extensions|enum|Enum|IntEnum|StrEnum|Flag|IntFlag|Generic|Protocol|ABC|"
                        r"ABCMeta|namedtuple|NamedTuple|TypedDict|TYPE_CHECKING|abstractmethod)\b|"
                        r"dataclass|overload|contextmanager")
+WALKERS = "list tuple dict sorted sum any all enumerate zip min max .join".split()
 NAMES_OUT = "register mro elements open input version_info with_traceback add_note format format_map".split()
 NOT_KEPT = "items keys values pop update append clear extend insert remove reverse setdefault sort args encode".split()
 
@@ -59,6 +60,22 @@ def own_attributes():
         if isinstance(node, ast.Attribute) and isinstance(node.ctx, ast.Store):
             values.add(node.attr)
     return methods, values
+
+
+def nodes_with_parents():
+    """As nodes, and each node has the one that it stands in as its value parent."""
+    for name, text in sources():
+        for parent in ast.walk(ast.parse(text)):
+            for node in ast.iter_child_nodes(parent):
+                node.parent = parent
+                yield node, f"{name}:{getattr(node, 'lineno', 0)}"
+
+
+def called(node):
+    """What a call calls: a name, or a method's name behind a point; None of what is no call."""
+    if not isinstance(node, ast.Call):
+        return None
+    return "." + node.func.attr if isinstance(node.func, ast.Attribute) else getattr(node.func, "id", None)
 
 
 class Files(unittest.TestCase):
@@ -189,6 +206,36 @@ class Code(unittest.TestCase):
             if isinstance(node, ast.Attribute):
                 self.assertIn(node.attr, allowed, where)
                 self.assertNotIn(node.attr, NAMES_OUT, where)
+
+    def test_walked_at_once(self):
+        for node, where in nodes_with_parents():
+            if called(node) in ("zip", "enumerate", "reversed", "range", ".items", ".keys", ".values"):
+                if isinstance(node.parent, (ast.For, ast.comprehension)):
+                    self.assertIs(node.parent.iter, node, where)
+                else:
+                    self.assertIn(called(node.parent), WALKERS, where)
+
+    def test_sets_are_not_kept(self):
+        for node, where in nodes_with_parents():
+            if called(node) in ("set", "frozenset") or isinstance(node, ast.Set):
+                around = node.parent
+                while isinstance(around, ast.BinOp):
+                    around = around.parent
+                self.assertTrue(isinstance(around, ast.Compare) or called(around) in ("sorted", "len"), where)
+
+    def test_lists_and_dicts_at_the_top_hold_none_and_are_not_changed(self):
+        for name, text in sources():
+            tree, tops = ast.parse(text), []
+            for node in tree.body:
+                if isinstance(node, ast.Assign) and isinstance(node.value, (ast.List, ast.Dict)):
+                    tops.append(node.targets[0].id)
+                    inner = [part for part in ast.walk(node.value) if isinstance(part, (ast.List, ast.Dict))]
+                    self.assertEqual(inner, [node.value], name)
+            for node in ast.walk(tree):
+                if isinstance(node, ast.Subscript) and not isinstance(node.ctx, ast.Load):
+                    self.assertNotIn(ast.unparse(node.value), tops, name)
+                if isinstance(node, ast.Attribute) and ast.unparse(node.value) in tops:
+                    self.assertIn(node.attr, ("get", "items", "keys", "values", "index", "count"), name)
 
     def test_errors_taken(self):
         for node, where in nodes():

@@ -3,15 +3,13 @@
 import itertools
 import unittest
 
-from digbook.chains import chain, standing
+from asking import BEHIND, OF_TWO
 from digbook.deposits import deposit_of, deposits, links
-from digbook.direct import direct_pairs, levels
 from digbook.errors import DigError, Torn
 from digbook.ground import Ground
-from digbook.opens import two_orders
 from digbook.orders import is_order, order
 from digbook.rings import ring
-from digbook.rows import fewest_rows, widest
+from digbook.years import why_greatest, why_least
 from drawings import free_ground, settled_ground
 from readings import ReadingCase, fewest_of_a_ring, plain_groups, plain_links, plain_names
 
@@ -27,12 +25,11 @@ def torn_answers(ground):
     """What the functions behind tell or refuse, each asked in several ways."""
     names = [group[0] for group in plain_groups(ground)]
     first, last = ground.layers()[0], ground.layers()[-1]
-    asked = [lambda tell=tell: tell(ground) for tell in (order, direct_pairs, levels, fewest_rows, widest)]
-    asked += [lambda some=some: is_order(ground, some) for some in (names, names[::-1], [], ["none"], names * 2)]
-    for tell in (chain, standing, two_orders):
-        for one, other in ((first, last), (last, first), (first, first), (last, last)):
-            asked.append(lambda tell=tell, one=one, other=other: tell(ground, one, other))
-    return asked
+    asked = [(tell, ground) for tell in BEHIND]
+    asked += [(is_order, ground, some) for some in (names, names[::-1], [], ["none"], names * 2)]
+    asked += [(tell, ground, layer) for tell in (why_least, why_greatest) for layer in (first, last)]
+    asked += [(tell, ground, *pair) for tell in OF_TWO for pair in itertools.product((first, last), repeat=2)]
+    return [lambda tell=tell, things=things: tell(*things) for tell, *things in asked]
 
 
 class RingCase(ReadingCase):
@@ -230,14 +227,16 @@ class WhatTornLeaves(RingCase):
 
     def test_layers_far_from_the_ring_are_refused_too(self):
         ground = Ground([("n", "a\nb"), ("s", "c\nd")], [("later", "n.b", "n.a")])
-        for tell in (chain, standing, two_orders):
+        for tell in OF_TWO:
             self.assertRaises(Torn, tell, ground, "s.c", "s.d")
             self.assertRaises(Torn, tell, ground, "s.d", "s.c")
             self.assertRaises(Torn, tell, ground, "s.d", "s.d")
 
     def test_layers_of_one_deposit_are_refused_too(self):
-        for tell in (chain, standing, two_orders):
+        for tell in OF_TWO:
             self.assertRaises(Torn, tell, self.ground, "s.d", "n.b")
+        for tell in (why_least, why_greatest):
+            self.assertRaises(Torn, tell, self.ground, "s.c")
 
     def test_each_refusal_has_a_ring_of_its_own(self):
         for ask in torn_answers(self.ground):

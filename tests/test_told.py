@@ -1,32 +1,28 @@
-"""Points 1 and 2 for all that is told of a ground, and its interface."""
+"""Points 1 and 2 for all that is told of a ground."""
 
-import inspect
 import itertools
 import os
 import subprocess
 import sys
 import unittest
 
-from digbook.chains import chain, standing
-from digbook.deposits import deposit_of, deposits, links
+from asking import AHEAD, BEHIND, OF_ONE, OF_TWO, all_told, own_things, parts_of, questions, spoil
+from digbook.chains import chain
+from digbook.deposits import deposits, links
 from digbook.direct import direct_pairs, levels
-from digbook.errors import Torn
 from digbook.ground import Ground
 from digbook.opens import two_orders
 from digbook.orders import is_order, order
-from digbook.rings import ring
 from digbook.rows import fewest_rows, widest
-from drawings import free_ground, settled_ground
-
-# What is told with a ring too, what is refused there, and what is asked of two layers.
-AHEAD = (deposits, links, ring)
-BEHIND = (order, direct_pairs, levels, fewest_rows, widest)
-OF_TWO = (chain, standing, two_orders)
+from digbook.wrong import fewest_wrong
+from digbook.years import bounds, clash, why_greatest, why_least
+from drawings import dated_grounds
 
 HERE = os.path.dirname(os.path.abspath(__file__))
 
 CUTS = [("n", "a\nb\nc"), ("s", "x\ny"), ("w", "pq")]
-SAYINGS = [("same", "s.y", "n.b"), ("later", "w.p", "s.x"), ("since", "n.a", 4), ("later", "n.c", "w.q")]
+SAYINGS = [("same", "s.y", "n.b"), ("later", "w.p", "s.x"), ("since", "n.c", 4), ("later", "n.c", "w.q"),
+           ("by", "w.p", 3), ("by", "n.b", 3), ("since", "w.p", 5)]
 
 
 def whole():
@@ -37,58 +33,18 @@ def torn():
     return Ground(list(CUTS), SAYINGS + [("later", "n.c", "w.p")])
 
 
-def questions(ground):
-    """What can be asked of a ground, each function with its arguments; of the pairs of layers some."""
-    layers = ground.layers()
-    asked = [(tell, ground) for tell in AHEAD + BEHIND]
-    asked += [(deposit_of, ground, layer) for layer in layers]
-    asked += [(is_order, ground, some) for some in (layers, layers[::-1], deposits(ground)[0], [])]
-    for one, other in list(zip(layers, layers[::-1])) + list(zip(layers, layers[3:])):
-        asked += [(tell, ground, one, other) for tell in OF_TWO]
-    return asked
-
-
-def answer(tell, *things):
-    try:
-        return tell(*things)
-    except Torn as error:
-        return error.ring
-
-
-def all_told(ground):
-    return [answer(*asked) for asked in questions(ground)]
-
-
-def own_things(ground):
-    return [ground.cuts(), ground.sayings(), ground.layers(), ground.ties()]
-
-
-def parts_of(told):
-    """All lists and dicts in what is told, however deep, itself among them."""
-    inner = list(told.values()) if isinstance(told, dict) else told if isinstance(told, (list, tuple)) else []
-    parts = [told] if isinstance(told, (list, dict)) else []
-    for part in inner:
-        parts += parts_of(part)
-    return parts
-
-
-def spoil(told):
-    """Changes each told list and dict in every way."""
-    for part in parts_of(told):
-        if isinstance(part, dict):
-            part.update(dict.fromkeys(part, "other"), more=None)
-        elif part:
-            part.reverse()
-            part.append("more")
-            part[0] = None
-
-
 class NothingKeptNothingChanged(unittest.TestCase):
     def test_each_kind_is_asked_for(self):
-        told = dict(zip([asked[0] for asked in questions(whole())], all_told(whole())))
-        for kind in (list, dict, tuple, str, bool):
-            self.assertIn(kind, [type(some) for some in all_told(whole())])
-        self.assertEqual(set(told), set(AHEAD + BEHIND + OF_TWO + (deposit_of, is_order)))
+        kinds = {}
+        for asked, told in zip(questions(whole()), all_told(whole())):
+            kinds.setdefault(asked[0], set()).add(type(told))
+        self.assertEqual(set(kinds), set(AHEAD + BEHIND + OF_ONE + OF_TWO + (is_order,)))
+        for tell in (deposits, links, order, direct_pairs, fewest_rows, widest, chain):
+            self.assertIn(list, kinds[tell])
+        for tell in (two_orders, clash, fewest_wrong, why_least, why_greatest):
+            self.assertIn(tuple, kinds[tell])
+        for tell in (levels, bounds):
+            self.assertIn(dict, kinds[tell])
 
     def test_told_lists_changed(self):
         for make in (whole, torn):
@@ -124,9 +80,9 @@ class NothingKeptNothingChanged(unittest.TestCase):
             self.assertEqual(all_told(grounds[one]), before[one])
 
     def test_grounds_made_and_forgotten_in_turn(self):
-        asked = [(all_told(free_ground(seed)), seed) for seed in range(60)]
-        for told, seed in reversed(asked):
-            self.assertEqual(all_told(free_ground(seed)), told)
+        asked = [all_told(ground) for ground in dated_grounds(25)]
+        for told, ground in reversed(list(zip(asked, dated_grounds(25)))):
+            self.assertEqual(all_told(ground), told)
 
     def test_the_grounds_own_things_stay(self):
         for make in (whole, torn):
@@ -137,12 +93,10 @@ class NothingKeptNothingChanged(unittest.TestCase):
             self.assertEqual(own_things(ground), before)
 
     def test_the_grounds_own_things_stay_in_drawn_ones(self):
-        for seed in range(60):
-            for make in (free_ground, settled_ground):
-                ground = make(seed)
-                for told in all_told(ground):
-                    spoil(told)
-                self.assertEqual(own_things(ground), own_things(make(seed)))
+        for ground, other in zip(dated_grounds(25), dated_grounds(25)):
+            for told in all_told(ground):
+                spoil(told)
+            self.assertEqual(own_things(ground), own_things(other))
 
     def test_each_ground_of_the_same_things_is_told_the_same(self):
         cuts, sayings = list(CUTS), list(SAYINGS)
@@ -157,28 +111,18 @@ class NothingKeptNothingChanged(unittest.TestCase):
 
 class NothingByChance(unittest.TestCase):
     def test_the_same_whatever_python_hashes_by(self):
-        code = ("from drawings import free_ground, settled_ground\n"
-                "from test_told import all_told\n"
-                "for seed in range(25):\n"
-                "    print([all_told(make(seed)) for make in (free_ground, settled_ground)])\n")
+        code = ("from asking import all_told\n"
+                "from drawings import dated_grounds\n"
+                "for ground in dated_grounds(12):\n"
+                "    print(all_told(ground))\n")
         answers = []
         for number in ("0", "1", "2"):
             told = subprocess.run([sys.executable, "-c", code], capture_output=True, text=True, check=True,
                                   cwd=HERE, env={**os.environ, "PYTHONHASHSEED": number,
                                                  "PYTHONPATH": os.path.dirname(HERE), "PYTHONDONTWRITEBYTECODE": "1"})
             answers.append(told.stdout)
-        self.assertEqual(len(answers[0].splitlines()), 25)
+        self.assertEqual(len(answers[0].splitlines()), 36)
         self.assertEqual(len(set(answers)), 1)
-
-
-class Interface(unittest.TestCase):
-    def test_arguments_by_their_names(self):
-        for tell, asked in ((deposits, ["ground"]), (deposit_of, ["ground", "layer"]), (links, ["ground"]),
-                            (ring, ["ground"]), (order, ["ground"]), (is_order, ["ground", "some"]),
-                            (chain, ["ground", "one", "other"]), (standing, ["ground", "one", "other"]),
-                            (two_orders, ["ground", "one", "other"]), (direct_pairs, ["ground"]),
-                            (levels, ["ground"]), (fewest_rows, ["ground"]), (widest, ["ground"])):
-            self.assertEqual(list(inspect.signature(tell).parameters), asked, tell)
 
 
 if __name__ == "__main__":
