@@ -127,8 +127,8 @@ def keys_by_value(some):
     return turned_about
 
 
-# Of each of the most pairs one, so that no asker has a partner left of which both
-# are not among them: what those without a partner ask for, else the asker.
+# Of each of the most pairs one, such that of any asker and any of its partners one
+# is among them: the partner where the askers without one ask for it, else the asker.
 def one_of_each_pair(partners, held_by):
     holds = keys_by_value(held_by)
     asked_by = ask_around(partners, held_by, [asker for asker in partners if asker not in holds])
